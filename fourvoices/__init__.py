@@ -1,0 +1,1 @@
+"""Fourvoices: lines of notes by rules told as text."""

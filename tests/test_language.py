@@ -166,7 +166,142 @@ def faults(text, known=frozenset(), defined=None):
             told.append(f"{rule} {getattr(node, 'lineno', 0)}")
     found = list(name_faults(tree, known | {name for node, name in bound_names(tree)}))
     found += list(top_faults(tree, docstring)) + list(import_faults(tree, defined or {}))
+    classes = {name for name in known | {name for node, name in bound_names(tree)} if name[0].isupper() and not name.isupper()}
+    found += list(walk_faults(tree)) + list(use_faults(tree, classes)) + list(top_value_faults(tree))
+    found += list(own_name_faults(tree))
     return told + [f"{rule} {getattr(node, 'lineno', 0)}" for node, rule in found]
+
+
+def parents_of(tree):
+    return {child: node for node in ast.walk(tree) for child in ast.iter_child_nodes(node)}
+
+
+def called(node):
+    return node.func.id if isinstance(node, ast.Call) and isinstance(node.func, ast.Name) else None
+
+
+def is_walk(node):
+    if isinstance(node, ast.Call) and isinstance(node.func, ast.Attribute):
+        return node.func.attr in ("items", "keys", "values")
+    return called(node) in ("zip", "enumerate", "reversed", "range")
+
+
+def walked_at_once(node, parent):
+    if isinstance(parent, (ast.For, ast.comprehension)):
+        return parent.iter is node
+    if isinstance(parent, ast.Call) and isinstance(parent.func, ast.Attribute):
+        return parent.func.attr == "join" and isinstance(parent.func.value, ast.Constant)
+    if called(parent) in ("min", "max"):
+        return parent.args == [node]
+    firsts = ("list", "tuple", "dict", "sorted", "sum", "any", "all", "enumerate", "zip")
+    return called(parent) in firsts and parent.args[0] is node
+
+
+def set_stands_well(node, parent):
+    if isinstance(parent, ast.Compare):
+        return all(isinstance(sign, (ast.In, ast.NotIn, ast.Eq, ast.NotEq)) for sign in parent.ops)
+    return called(parent) in ("sorted", "len") and not parent.keywords or isinstance(parent, ast.BinOp)
+
+
+CHANGES = set("append clear extend insert pop remove reverse setdefault update".split())
+
+
+def changed_names(node):
+    for inner in ast.walk(node):
+        if isinstance(inner, ast.Call) and isinstance(inner.func, ast.Attribute) and inner.func.attr in CHANGES:
+            yield ast.unparse(inner.func.value)
+        if isinstance(inner, ast.Subscript) and isinstance(inner.ctx, ast.Store):
+            yield ast.unparse(inner.value)
+
+
+def walk_faults(tree):
+    parents = parents_of(tree)
+    for node in ast.walk(tree):
+        if is_walk(node) and not walked_at_once(node, parents[node]):
+            yield node, "L23 walk"
+        if (isinstance(node, ast.Set) or called(node) in ("set", "frozenset")) and not set_stands_well(node, parents[node]):
+            yield node, "L24 set"
+        if isinstance(node, ast.For):
+            walked = node.iter
+            if is_walk(walked) or called(walked) == "list":
+                own = walked.func.value if isinstance(walked.func, ast.Attribute) else None
+                walked_names = [] if called(walked) == "list" else [ast.unparse(x) for x in walked.args + [own] if x]
+            else:
+                walked_names = [ast.unparse(walked)]
+            if any(name in walked_names for row in node.body for name in changed_names(row)):
+                yield node, "L23 changed"
+
+
+KEYWORDS = {"sorted": ("key", "reverse"), "min": ("key", "default"), "max": ("key", "default"), "sum": ("start",),
+            "enumerate": ("start",), "zip": ("strict",)}
+
+
+def use_faults(tree, classes):
+    parents = parents_of(tree)
+    for node in ast.walk(tree):
+        parent = parents.get(node)
+        if isinstance(node, ast.Call) and node.keywords:
+            name = called(node)
+            if name in classes or isinstance(node.func, ast.Attribute) and node.func.attr in OWN_METHODS:
+                yield node, "L22 keyword"
+            if name in OWN_NAMES and any(word.arg not in KEYWORDS.get(name, ()) for word in node.keywords):
+                yield node, "L22 keyword"
+        if isinstance(node, ast.Name) and isinstance(node.ctx, ast.Load) and node.id in classes:
+            beside = isinstance(parent, ast.Call) and (parent.func is node or called(parent) == "isinstance")
+            init = isinstance(parent, ast.Attribute) and parent.attr == "__init__"
+            if not (beside or init or isinstance(parent, (ast.ClassDef, ast.ExceptHandler, ast.Raise))):
+                yield node, "L18 class"
+        if isinstance(node, ast.Attribute) and isinstance(node.ctx, ast.Load) and node.attr in OWN_METHODS:
+            if not (isinstance(parent, ast.Call) and parent.func is node):
+                yield node, "L25 kept"
+        if isinstance(node, ast.Name) and node.id in OWN_NAMES and not node.id[0].isupper():
+            if not (isinstance(parent, ast.Call) and (parent.func is node or called(parent) == "isinstance")):
+                if not isinstance(parent, (ast.keyword, ast.Tuple)):
+                    yield node, "L22 kept"
+        if isinstance(node, ast.Raise) and not isinstance(node.exc, ast.Call):
+            yield node, "L19 raise"
+        if isinstance(node, ast.arg) and node.annotation or isinstance(node, ast.FunctionDef) and node.returns:
+            yield node, "L21 annotation"
+
+
+def top_value_faults(tree):
+    """L15: a list or dict of the file's top is only read, and no local bears the name of an import or a class."""
+    kept = [ast.unparse(node.targets[0]) for node in tree.body
+            if isinstance(node, ast.Assign) and isinstance(node.value, (ast.List, ast.Dict))]
+    taken = {name.asname or name.name for node in tree.body if isinstance(node, ast.ImportFrom) for name in node.names}
+    taken |= {node.name for node in tree.body if isinstance(node, ast.ClassDef)}
+    parents = parents_of(tree)
+    for node in ast.walk(tree):
+        if isinstance(node, ast.Name) and isinstance(node.ctx, ast.Load) and node.id in kept:
+            parent = parents[node]
+            read = isinstance(parent, (ast.Subscript, ast.For, ast.comprehension, ast.Compare))
+            read = read or isinstance(parent, ast.Attribute) and parent.attr in ("get", "items", "keys", "values")
+            if not (read or called(parent) in ("len", "list", "dict", "sorted")):
+                yield node, "L15 handed on"
+        if isinstance(node, ast.Subscript) and isinstance(node.ctx, ast.Store) and ast.unparse(node.value) in kept:
+            yield node, "L15 changed"
+        if isinstance(node, ast.arg) and node.arg in taken:
+            yield node, "L15 taken"
+        if isinstance(node, ast.Name) and isinstance(node.ctx, ast.Store) and node.id in taken:
+            yield node, "L15 taken"
+
+
+PYTHONS_OWN = {name for kind in (str, int, list, dict, set, bytes, tuple, float) for name in dir(kind)} | {"args"}
+FREE_VALUES = set("count index title find get join lower upper split strip copy add".split())
+FREE_METHODS = OWN_METHODS | {"add", "discard"} | DOUBLE_METHODS
+
+
+def own_name_faults(tree):
+    for node in ast.walk(tree):
+        if isinstance(node, ast.Attribute) and isinstance(node.ctx, ast.Store):
+            if node.attr in PYTHONS_OWN - FREE_VALUES:
+                yield node, "L26 value"
+        if isinstance(node, ast.ClassDef):
+            names = [row.name for row in node.body if isinstance(row, ast.FunctionDef)]
+            if set(names) & (PYTHONS_OWN - FREE_METHODS):
+                yield node, "L26 method"
+            if len(names) != len(set(names)):
+                yield node, "L18 twice"
 
 
 def drawn_from(tree):
@@ -216,8 +351,18 @@ class Reader(unittest.TestCase):
     """The reader of the form itself: what it has to see."""
 
     def test_plain_code_has_no_fault(self):
-        text = '"""A file."""\n\nMOST = 3\n\n\ndef twice(xs):\n    return [x + x for x in xs if x is not None]\n'
-        self.assertEqual(faults(text), [])
+        plain = (
+            '"""A file."""\n\nMOST = 3\n\n\ndef twice(xs):\n    return [x + x for x in xs if x is not None]\n',
+            "def f(x):\n    return sorted(set(x)) + list(reversed(x)) + [min(x, default=None)]\n",
+            "def f(x, y):\n    for k, z in enumerate(x):\n        y[k] = z\n        y.append(z)\n",
+            "def g(x):\n    return x\n\n\nXS = {'a': g}\n\n\ndef f(x):\n    return XS[x](1) if x in XS else None\n",
+            "class Ab:\n    def __init__(self, told):\n        self.told = told\n\n\n"
+            "class Cd(Ab):\n    def __init__(self):\n        Ab.__init__(self, 1)\n",
+            "def f(x):\n    for y in list(x):\n        x.remove(y)\n",
+        )
+        for text in plain:
+            with self.subTest(text=text):
+                self.assertEqual(faults(text), [])
 
     def test_wrong_code_has_a_fault(self):
         wrong = (
@@ -229,6 +374,15 @@ class Reader(unittest.TestCase):
             "def f(n):\n    return 2 ** n\n", "x = 'a % b'\n", "x = 1\t\n", "# type\n", "def _f():\n    pass\n",
             "def f(xs):\n    for x in xs:\n        pass\n    else:\n        pass\n", "x = 1 # " + "y" * 120 + "\n",
             "def f():\n" + "    pass\n" * 40, "def f():\n    pass\n" * 2, "# row\n" * 401, "x = 1\n" * 2, "if True:\n    pass\n",
+            "def f(x):\n    y = range(x)\n    return y\n", "def f(x):\n    return reversed(range(x))\n",
+            "def f(x):\n    return set(x)\n", "def f(x):\n    for y in x:\n        x.append(y)\n",
+            "def f(x):\n    for y in enumerate(x):\n        x[0] = y\n", "def f(x):\n    return x.items()\n",
+            "class Ab:\n    pass\n\n\ndef f():\n    return Ab\n", "def f(x):\n    return x.append\n",
+            "def f(x):\n    return x.split(sep=' ')\n", "def f(x):\n    return sorted(x, cmp=1)\n",
+            "XS = [1]\n\n\ndef f():\n    return XS\n", "XS = [1]\n\n\ndef f():\n    XS[0] = 2\n",
+            "class Ab:\n    def __init__(self):\n        self.items = 1\n", "def f(x):\n    raise x\n",
+            "class Ab:\n    def f(self):\n        pass\n\n    def f(self):\n        pass\n",
+            "def f(x: int):\n    return x\n", "def f():\n    return len\n",
             "def f():\n    return open\n", "x = b''\n", "def f(x):\n    with x:\n        pass\n", "x = '\u00e9'\n",
         )
         for text in wrong:

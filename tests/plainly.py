@@ -155,3 +155,67 @@ def fitting_lines(text, long):
 
 def agreeing_lines(text, pattern):
     return [line for line in fitting_lines(text, len(pattern)) if takes(pattern, line)]
+
+
+# Small scores with rules of all kinds, so that all of their short lines can be gone through.
+SMALL = tuple("\n".join(rows) for rows in (
+    ("voice 0 0",),
+    ("voice 0 2",),
+    ("voice -1 1", "move 1 1 -1"),
+    ("voice 0 3", "move 1 1 -1 2 -2", "back 1 1"),
+    ("voice 0 2", "back 1 0"),
+    ("voice 0 2", "held 1 1", "begin 1 0 2", "close 1 1 2"),
+    ("voice 0 1", "held 1 3"),
+    ("voice 0 2", "times 1 1 1 2"),
+    ("voice 0 2", "times 1 1 2 1"),
+    ("voice 0 2", "times 1 0 0 0", "times 1 2 2 3"),
+    ("voice 0 1", "times 1 1 3 4", "held 1 2"),
+    ("voice 0 2", "begin 1 1", "move 1 1"),
+    ("voice 0 2", "begin 1 7"),
+    ("voice 0 2", "close 1 7"),
+    ("voice 0 2", "begin 1 0", "move 1 1", "close 1 2"),
+    ("voice 0 1", "span 1 1 5"),
+    ("voice 0 2", "every 2 0 span 1 1 1"),
+    ("voice 0 1", "every 3 2 clock 1 1 4 1", "begin 1 0"),
+    ("voice 0 1", "every 2 1 span 1 1 0", "alike 1 1 0"),
+    ("voice 5 6", "voice 6 7", "span 1 2 0 1 2"),
+    ("voice 0 1", "voice 0 1", "clock 1 2 2 1"),
+    ("voice -1 1", "voice 0 1", "clock 2 1 3 0 1", "move 2 0 1 -1"),
+    ("voice 0 1", "voice 0 2", "alike 1 2 0 1", "held 2 1"),
+    ("voice 0 1", "voice 0 1", "alike 2 1 0", "times 1 0 1 2", "close 2 0"),
+    ("voice 0 1", "voice 0 1", "every 2 1 span 1 2 0", "back 1 0"),
+    ("voice 0 1", "voice 3 3", "voice 0 1", "clock 1 3 2 0", "held 1 2", "begin 3 1"),
+    ("voice 0 1", "voice 0 0", "voice 1 1", "voice 0 1", "span 4 1 0 1", "alike 1 4 0", "times 4 1 1 3", "held 1 2"),
+    ("voice 60 61", "voice 64 65", "span 1 2 3 4", "clock 1 2 12 3 4 5", "move 1 0 1 -1", "alike 1 2 3", "back 2 1",
+     "held 1 2", "times 2 64 0 2", "begin 1 60", "close 1 60", "every 2 1 span 1 2 4"),
+    (f"voice {FORTY - 1} {FORTY}", f"times 1 {FORTY} 1 2", "move 1 0 1 -1"),
+    (f"voice -{FORTY} -{FORTY - 1}", "held 1 2", f"close 1 -{FORTY}"),
+))
+
+
+def longest_for(text):
+    """So many columns that all lines up to there can be gone through in a short while."""
+    many = len(columns_of(text))
+    return max(long for long in range(6) if many ** long <= 700)
+
+
+def patterns_for(text, long):
+    """Patterns with and without holes, with notes out of the ranges, one after another."""
+    ranges = ranges_of(text)
+    voices = len(ranges)
+    yield [(None,) * voices] * long
+    if long == 0:
+        return
+    columns = columns_of(text)
+    yield [columns[place % len(columns)] for place in range(long)]
+    for turn in range(2 * long + 2):
+        yield [tuple(
+            None if (place * 2 + voice + turn) % 3 else ranges[voice][0] + (place + turn) % 2
+            for voice in range(voices)) for place in range(long)]
+    for place in (0, long - 1):
+        pattern = [(None,) * voices] * long
+        pattern[place] = (None,) * (voices - 1) + (ranges[-1][1] + 1,)
+        yield pattern
+        pattern = [(None,) * voices] * long
+        pattern[place] = (ranges[0][0],) + (None,) * (voices - 1)
+        yield pattern

@@ -13,20 +13,16 @@ def agreeing(machine, given):
     return told
 
 
-def states_of(machine):
-    return list(range(machine.size()))
-
-
 def counted_on(ways, taken, later):
     return sum([later[state] for column, state in ways if column in taken])
 
 
 def counts_paper(machine, pattern):
-    backward = [[1 if machine.ends(state) else 0 for state in states_of(machine)]]
+    backward = [[1 if machine.ends(state) else 0 for state in machine.states()]]
     for given in reversed(pattern):
         taken = agreeing(machine, given)
         later = backward[-1]
-        backward.append([counted_on(machine.ways(state), taken, later) for state in states_of(machine)])
+        backward.append([counted_on(machine.ways(state), taken, later) for state in machine.states()])
     return list(reversed(backward))
 
 

@@ -62,5 +62,8 @@ class Machine:
                 return None
         return state
 
+    def states(self):
+        return list(range(len(self.leads)))
+
     def ways(self, state):
         return list(self.leads[state].items())

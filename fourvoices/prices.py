@@ -23,10 +23,9 @@ def least_price(ways, costs, later):
 
 
 def prices_paper(machine, pattern, prices=None):
-    states = list(range(machine.size()))
-    backward = [[0 if machine.ends(state) else None for state in states]]
+    backward = [[0 if machine.ends(state) else None for state in machine.states()]]
     for given in reversed(pattern):
         costs = column_prices(machine, given, prices)
         later = backward[-1]
-        backward.append([least_price(machine.ways(state), costs, later) for state in states])
+        backward.append([least_price(machine.ways(state), costs, later) for state in machine.states()])
     return list(reversed(backward))

@@ -1,12 +1,12 @@
 """How many of a pattern's lines have which note at a place."""
 
-from fourvoices.counts import agreeing, counts_paper, states_of
+from fourvoices.counts import agreeing, counts_paper
 from fourvoices.machine import START
 
 
 # For each state: in how many ways columns that agree with the pattern lead to it from the start.
 def arrivals(machine, pattern):
-    told = [1 if state == START else 0 for state in states_of(machine)]
+    told = [1 if state == START else 0 for state in machine.states()]
     for given in pattern:
         taken = agreeing(machine, given)
         farther = [0] * machine.size()

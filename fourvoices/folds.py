@@ -1,6 +1,6 @@
 """Folding: the machine with the fewest states that takes the same lines."""
 
-from fourvoices.machine import START
+from fourvoices.machine import START, States
 from fourvoices.parts import parting_line
 from fourvoices.scores import columns
 
@@ -59,19 +59,19 @@ def kinds_of(machine):
         kinds = finer
 
 
-class Folding:
+class Folding(States):
     def __init__(self, machine):
+        States.__init__(self)
         self.steps = columns(machine.score)
-        self.leads = []
-        self.well = []
         kinds = kinds_of(machine)
-        numbers = self.build(machine, kinds)
+        numbers = {}
+        if kinds[START] is not None:
+            numbers[kinds[START]] = START
+            self.build(machine, kinds, numbers, [START])
         self.homes = [None if kind is None else numbers[kind] for kind in kinds]
 
-    def build(self, machine, kinds):
-        # Of each kind one member stands for all.
-        members = [START] if kinds[START] is not None else []
-        numbers = {kinds[START]: 0}
+    # Of each kind the member that is met first stands for all.
+    def build(self, machine, kinds, numbers, members):
         while len(self.leads) < len(members):
             member = members[len(self.leads)]
             leads = {}
@@ -85,22 +85,12 @@ class Folding:
                 leads[column] = numbers[kind]
             self.leads.append(leads)
             self.well.append(machine.ends(member))
-        return numbers
-
-    def size(self):
-        return len(self.leads)
-
-    def to(self, state, column):
-        return self.leads[state].get(column)
-
-    def ends(self, state):
-        return self.well[state]
 
     def home(self, state):
         return self.homes[state]
 
     def table(self):
-        return [(self.well[state], list(self.leads[state].items())) for state in range(len(self.leads))]
+        return [(self.ends(state), self.ways(state)) for state in self.states()]
 
     def tail(self, one, other):
         if one == other:

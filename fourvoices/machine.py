@@ -19,12 +19,33 @@ def all_close(rules, memories, last):
     return all([rule.closes(memory, last) for rule, memory in zip(rules, memories)])
 
 
-class Machine:
-    # What lies behind a state is its last column and the rules' memories behind that: rules look no farther back.
-    def __init__(self, score):
-        self.score = score
+# What machines and foldings have in common: for each state where its columns lead, in order, and whether it ends well.
+class States:
+    def __init__(self):
         self.leads = []
         self.well = []
+
+    def size(self):
+        return len(self.leads)
+
+    def to(self, state, column):
+        return self.leads[state].get(column)
+
+    def ends(self, state):
+        return self.well[state]
+
+    def states(self):
+        return list(range(len(self.leads)))
+
+    def ways(self, state):
+        return list(self.leads[state].items())
+
+
+class Machine(States):
+    # What lies behind a state is its last column and the rules' memories behind that: rules look no farther back.
+    def __init__(self, score):
+        States.__init__(self)
+        self.score = score
         beginning = (None, tuple([rule.start() for rule in score.rules]))
         self.build([beginning], {beginning: START}, columns(score))
 
@@ -45,15 +66,6 @@ class Machine:
             self.leads.append(leads)
             self.well.append(all_close(rules, memories, last))
 
-    def size(self):
-        return len(self.leads)
-
-    def to(self, state, column):
-        return self.leads[state].get(column)
-
-    def ends(self, state):
-        return self.well[state]
-
     def walk(self, line):
         state = START
         for column in line:
@@ -61,9 +73,3 @@ class Machine:
             if state is None:
                 return None
         return state
-
-    def states(self):
-        return list(range(len(self.leads)))
-
-    def ways(self, state):
-        return list(self.leads[state].items())
